@@ -1,0 +1,1 @@
+"""Pollproof: a counting house whose outcomes show themselves."""
