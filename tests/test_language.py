@@ -64,6 +64,41 @@ def top_names(tree):
     return [name for node in tree.body for part in [node] + getattr(node, "targets", []) for name in bound_names(part)]
 
 
+def parents_of(tree):
+    """Each form's own form around it."""
+    return {part: node for node in ast.walk(tree) for part in ast.iter_child_nodes(node)}
+
+
+def called_name(node):
+    """The name that a call calls: a plain one, or a method's."""
+    if not isinstance(node, ast.Call):
+        return None
+    return node.func.id if isinstance(node.func, ast.Name) else getattr(node.func, "attr", None)
+
+
+def is_method_call(node):
+    return isinstance(node, ast.Call) and isinstance(node.func, ast.Attribute)
+
+
+def walked_on_the_spot(node, around):
+    """Whether a call of zip, items and their like stands where its things are walked at once."""
+    if isinstance(around, (ast.For, ast.comprehension)):
+        return around.iter is node
+    name = called_name(around)
+    if name in ("min", "max"):
+        return around.args == [node]
+    if is_method_call(around):
+        return name == "join" and isinstance(around.func.value, ast.Constant)
+    return name in FIRST_IN and node in around.args[:None if name == "zip" else 1]
+
+
+FIRST_IN = ["list", "tuple", "dict", "sorted", "sum", "any", "all", "enumerate", "zip"]
+WALKED = ["zip", "enumerate", "reversed", "range"]
+CHANGING = ["append", "clear", "extend", "insert", "pop", "remove", "reverse", "setdefault", "update"]
+KEYWORDS = {"sorted": ["key", "reverse"], "min": ["key", "default"], "max": ["key", "default"], "sum": ["start"],
+            "enumerate": ["start"], "zip": ["strict"]}
+
+
 class Language(unittest.TestCase):
     def each_form(self):
         for path in files():
@@ -156,6 +191,149 @@ class Language(unittest.TestCase):
                 with self.subTest(place):
                     self.assertIsInstance(node.right, ast.Constant)
                     self.assertIn(node.right.value, range(65))
+
+    def test_targets_l6(self):
+        for place, node in self.each_form():
+            if isinstance(node, ast.Assign):
+                with self.subTest(place):
+                    self.assertEqual(len(node.targets), 1)
+                    self.assertIsInstance(node.targets[0], (ast.Name, ast.Attribute, ast.Subscript))
+
+    def test_comprehensions_l7(self):
+        for place, node in self.each_form():
+            with self.subTest(place):
+                if isinstance(node, ast.ListComp):
+                    self.assertEqual(len(node.generators), 1)
+                    self.assertLessEqual(len(node.generators[0].ifs), 1)
+                if isinstance(node, ast.FormattedValue):
+                    self.assertIsInstance(node.value, ast.Name)
+                    self.assertIsNone(node.format_spec)
+
+    def test_locals_l15(self):
+        for path in files():
+            tree = tree_of(path)
+            tops = top_names(tree) + [part.asname or part.name for node in tree.body
+                                      if isinstance(node, ast.ImportFrom) for part in node.names]
+            for top in tree.body:
+                defs = [top] if isinstance(top, ast.FunctionDef) else getattr(top, "body", [])
+                for part in defs:
+                    inside = [name for node in ast.walk(part) if node is not part for name in bound_names(node)]
+                    if isinstance(part, ast.FunctionDef):
+                        with self.subTest(f"{path.name}:{part.lineno}"):
+                            self.assertEqual([name for name in inside if name in tops], [])
+
+    def test_methods_and_values_l18_l26(self):
+        methods, values = set(), set()
+        for place, node in self.each_form():
+            if isinstance(node, ast.ClassDef):
+                names = [part.name for part in node.body if isinstance(part, ast.FunctionDef)]
+                self.assertEqual(len(names), len(set(names)), place)
+                methods |= set(names)
+            if isinstance(node, ast.Attribute) and isinstance(node.ctx, ast.Store):
+                self.assertIsInstance(node.value, ast.Name, place)
+                self.assertNotIn(node.attr, PYTHONS_METHODS | {"args"}, place)
+                values.add(node.attr)
+        self.assertEqual(methods & values, set())
+        self.assertEqual((methods - set(DOUBLE)) & PYTHONS_METHODS, set())
+
+    def test_errors_l19(self):
+        for place, node in self.each_form():
+            with self.subTest(place):
+                if isinstance(node, ast.Raise):
+                    self.assertIsInstance(node.exc, ast.Call)
+                if isinstance(node, ast.ExceptHandler):
+                    self.assertIsInstance(node.type, ast.Name)
+                    self.assertNotIn(node.type.id, dir(builtins))
+
+    def test_is_l20(self):
+        for place, node in self.each_form():
+            if isinstance(node, ast.Compare):
+                for operator, right in zip(node.ops, node.comparators):
+                    if isinstance(operator, (ast.Is, ast.IsNot)):
+                        self.assertIn(getattr(right, "value", 0), (None, True, False), place)
+                        self.assertIsInstance(right, ast.Constant, place)
+
+    def test_keywords_l22(self):
+        for place, node in self.each_form():
+            if isinstance(node, ast.Call):
+                allowed = [] if is_method_call(node) else KEYWORDS.get(called_name(node), [])
+                for keyword in node.keywords:
+                    self.assertIn(keyword.arg, allowed, place)
+
+    def test_own_names_are_called_l22_l25(self):
+        for path in files():
+            tree = tree_of(path)
+            around = parents_of(tree)
+            for node in ast.walk(tree):
+                place = f"{path.name}:{getattr(node, 'lineno', 0)}"
+                if isinstance(node, ast.Name) and node.id in dir(builtins):
+                    outer = around[node]
+                    called = isinstance(outer, ast.Call) and (outer.func is node or called_name(outer) == "isinstance")
+                    in_pair = isinstance(outer, ast.Tuple) and called_name(around[outer]) == "isinstance"
+                    a_base = isinstance(outer, ast.ClassDef)
+                    a_key = isinstance(outer, ast.keyword) and outer.arg == "key"
+                    self.assertTrue(called or in_pair or a_base or a_key, place)
+                if isinstance(node, ast.Attribute) and node.attr in METHODS:
+                    self.assertTrue(isinstance(around[node], ast.Call) and around[node].func is node, place)
+
+    def test_walked_on_the_spot_l23(self):
+        for path in files():
+            tree = tree_of(path)
+            around = parents_of(tree)
+            for node in ast.walk(tree):
+                plain = called_name(node) in WALKED and not is_method_call(node)
+                of_dict = called_name(node) in ("items", "keys", "values") and is_method_call(node)
+                if plain or of_dict:
+                    self.assertTrue(walked_on_the_spot(node, around[node]), f"{path.name}:{node.lineno}")
+
+    def test_what_is_walked_stays_l23(self):
+        for place, node in self.each_form():
+            if not isinstance(node, ast.For):
+                continue
+            walked = {ast.unparse(part) for part in ast.walk(node.iter) if isinstance(part, (ast.Name, ast.Attribute))}
+            for part in [inner for row in node.body for inner in ast.walk(row)]:
+                if is_method_call(part) and part.func.attr in CHANGING:
+                    self.assertNotIn(ast.unparse(part.func.value), walked, place)
+                if isinstance(part, ast.Subscript) and isinstance(part.ctx, ast.Store):
+                    self.assertNotIn(ast.unparse(part.value), walked, place)
+
+    def test_sets_l13_l24(self):
+        for path in files():
+            tree = tree_of(path)
+            around = parents_of(tree)
+            for node in ast.walk(tree):
+                self.assertNotIsInstance(node, ast.Set)
+                if called_name(node) in ("set", "frozenset"):
+                    outer = around[node]
+                    fits = isinstance(outer, ast.Compare) or called_name(outer) in ("sorted", "len")
+                    self.assertTrue(fits, f"{path.name}:{node.lineno}")
+
+    def test_classes_l18_and_tops_l3(self):
+        for path in files():
+            tree = tree_of(path)
+            around = parents_of(tree)
+            names = [node.name for node in tree.body if isinstance(node, ast.ClassDef)]
+            names += [part.name for node in tree.body if isinstance(node, ast.ImportFrom) for part in node.names
+                      if part.name[0].isupper() and not part.name.isupper()]
+            for node in tree.body[1:]:
+                self.assertIsInstance(node, (ast.ImportFrom, ast.FunctionDef, ast.ClassDef, ast.Assign), path.name)
+                if isinstance(node, ast.Assign):
+                    ast.literal_eval(node.value)
+            for node in ast.walk(tree):
+                if isinstance(node, ast.Name) and node.id in names:
+                    outer = around[node]
+                    called = isinstance(outer, ast.Call) and outer.func is node
+                    a_base = isinstance(outer, (ast.ClassDef, ast.ExceptHandler))
+                    of_base = isinstance(outer, ast.Attribute) and outer.attr == "__init__"
+                    asked = called_name(outer) == "isinstance"
+                    self.assertTrue(called or a_base or of_base or asked, f"{path.name}:{node.lineno}")
+
+    def test_texts_l27(self):
+        for place, node in self.each_form():
+            if isinstance(node, ast.Constant) and isinstance(node.value, str):
+                self.assertNotIn("%", node.value, place)
+            if isinstance(node, ast.Call):
+                self.assertNotEqual(called_name(node), "chr", place)
 
     def test_tops_l15(self):
         for path in files():
