@@ -5,7 +5,7 @@ import unittest
 from collections import Counter
 from fractions import Fraction
 
-from pollproof.errors import PollError
+from pollproof.errors import NoWay, PollError
 
 
 class Other:
@@ -82,3 +82,98 @@ def sheet_in(text):
         number, _, slip = line.strip().partition(" ")
         ballots[slip_by(slip)] += int(number)
     return sorted(ballots.items())
+
+
+def told_fraction(value):
+    """A number or Fraction of Python's as the program tells it."""
+    value = Fraction(value)
+    return (value.numerator, value.denominator)
+
+
+def shares_by(sheet, hands, quota, deeds):
+    """By line a ballot's shares at each hand and spent, behind some deeds; reckoned with Python's Fractions."""
+    standing = set(range(hands))
+    free = [Fraction(1) for _ in sheet]
+    kept = [[Fraction(0)] * hands for _ in sheet]
+
+    def lying():
+        rows = []
+        for (slip, _), left in zip(sheet, free):
+            row = [Fraction(0)] * (hands + 1)
+            tiers = [[hand for hand in standing if tier >> hand & 1] for tier in slip]
+            first = next((tier for tier in tiers if tier), [hands])
+            for place in first:
+                row[place] = left / len(first)
+            rows.append(row)
+        return rows
+
+    for word, hand in deeds:
+        rows = lying()
+        tally = sum(number * row[hand] for (_, number), row in zip(sheet, rows))
+        part = Fraction(quota) / tally if tally > quota else Fraction(1)
+        for place, row in enumerate(rows):
+            if word == "seat":
+                kept[place][hand] = row[hand] * part
+                free[place] -= row[hand] * part
+        standing.remove(hand)
+    return [[a + b for a, b in zip(row, own + [0])] for row, own in zip(lying(), kept)]
+
+
+def tallies_by(sheet, hands, quota, deeds):
+    rows = shares_by(sheet, hands, quota, deeds)
+    return [sum((number * row[place] for (_, number), row in zip(sheet, rows)), Fraction(0))
+            for place in range(hands + 1)]
+
+
+def deed_by(tally, standing, places, quota, lots):
+    """The deed that is due by the four rules, first ones first."""
+    if len(standing) <= places:
+        return ("rest", None)
+    if places == 0:
+        return ("end", None)
+    by_tally = sorted(standing, key=lambda hand: (-tally[hand], lots.index(hand)))
+    if tally[by_tally[0]] >= quota:
+        return ("seat", by_tally[0])
+    return ("out", by_tally[-1])
+
+
+def deeds_by(sheet, hands, seats, lots=None):
+    """All deeds of a count of seats, the last one "rest" or "end"."""
+    lots = lots or list(range(hands))
+    quota = sum(number for _, number in sheet) // (seats + 1) + 1
+    deeds = []
+    while not deeds or deeds[-1][1] is not None:
+        standing = [hand for hand in range(hands) if hand not in [deed[1] for deed in deeds]]
+        places = seats - len([deed for deed in deeds if deed[0] == "seat"])
+        deeds.append(deed_by(tallies_by(sheet, hands, quota, deeds), standing, places, quota, lots))
+    return deeds
+
+
+def seats_by(sheet, hands, seats, lots=None):
+    """The outcome of a count of seats, reckoned with Python's Fractions."""
+    deeds = deeds_by(sheet, hands, seats, lots)
+    out = [hand for word, hand in deeds if word == "out"]
+    seated = [hand for word, hand in deeds if word == "seat"]
+    return [1 if hand in seated or deeds[-1][0] == "rest" and hand not in out else 0 for hand in range(hands)]
+
+
+NO_LOTS = [
+    [], [0], [0, 1], [0, 1, 2, 3], [0, 0, 1], [0, 1, 1], [2, 2, 2], [1, 2, 3], [0, 1, -1], [0, 1, 3], [0, 1, True],
+    [False, 1, 2], [0, 1, None], [0, 1, "2"], ["0", "1", "2"], [0, 1, 2.0], [0, 1, [2]], [0, 1, (2,)], (0, 1, 2),
+    "012", 0, 3, True, False, {0: 0, 1: 1, 2: 2}, {0, 1, 2}, range(3), "",
+]
+
+
+def refuses_what_a_way_refuses(test, make):
+    """For Way itself and all ways beneath it: make(hands, seats, lots)."""
+    for hands in NO_WHOLES + [0, 13, -1, 10 ** 59]:
+        with test.subTest(hands=hands):
+            test.refuses(NoWay, make, hands, 1, None)
+            test.refuses(NoWay, make, hands, 1, [0])
+    for seats in NO_WHOLES + [0, 61, -1, 10 ** 59]:
+        with test.subTest(seats=seats):
+            test.refuses(NoWay, make, 3, seats, None)
+            test.refuses(NoWay, make, 3, seats, [2, 0, 1])
+    for lots in NO_LOTS + [[0, 1, thing] for thing in NO_WHOLES] + [thing for thing in NO_WHOLES if thing is not None]:
+        with test.subTest(lots=lots):
+            test.refuses(NoWay, make, 3, 1, lots)
