@@ -177,3 +177,61 @@ def refuses_what_a_way_refuses(test, make):
     for lots in NO_LOTS + [[0, 1, thing] for thing in NO_WHOLES] + [thing for thing in NO_WHOLES if thing is not None]:
         with test.subTest(lots=lots):
             test.refuses(NoWay, make, 3, 1, lots)
+
+
+def altered(thing):
+    """Copies of a paper with one thing in it altered: a number, a word, None, or a list's length."""
+    if thing is None:
+        yield from (0, 1)
+    elif type(thing) is int:
+        yield from (thing + 1, thing - 1, -thing - 1, thing + 10 ** 30)
+    elif type(thing) is str:
+        yield from (thing + "s", "", "out" if thing == "seat" else "seat", "rest" if thing == "end" else "end")
+    else:
+        for place, part in enumerate(thing):
+            for other in altered(part):
+                yield thing[:place] + type(thing)([other]) + thing[place + 1:]
+        if type(thing) is list:
+            yield from altered_lists(thing)
+
+
+def altered_lists(some):
+    """Copies of a list that is longer, shorter, empty or turned round."""
+    for place in range(len(some)):
+        yield some[:place] + some[place + 1:]
+        yield some[:place + 1] + some[place:]
+    if len(some) > 1:
+        yield []
+        if some[::-1] != some:
+            yield some[::-1]
+
+
+def leads_by(sheet, hands):
+    """The leads, ballot by ballot, by the places of hands on slips."""
+    leads = [[0] * hands for _ in range(hands)]
+    for slip, number in sheet:
+        place = [next((k for k, tier in enumerate(slip) if tier >> hand & 1), 99) for hand in range(hands)]
+        for x, y in itertools.permutations(range(hands), 2):
+            leads[x][y] += number * ((place[x] < place[y]) - (place[x] > place[y]))
+    return leads
+
+
+def strengths_by(leads):
+    """The strengths, reckoned along every way one by one."""
+    hands = len(leads)
+    told = [[0] * hands for _ in range(hands)]
+    for x, y in itertools.permutations(range(hands), 2):
+        others = [hand for hand in range(hands) if hand not in (x, y)]
+        ways = [(x,) + middle + (y,) for many in range(hands - 1) for middle in itertools.permutations(others, many)]
+        told[x][y] = max(min(leads[a][b] for a, b in zip(way, way[1:])) for way in ways)
+    return told
+
+
+def picks_from(strengths, seats, lots):
+    """The hands picked by some strengths, one by one."""
+    left, picks = list(range(len(strengths))), []
+    while left and len(picks) < seats:
+        free = [x for x in left if all(strengths[x][y] >= strengths[y][x] for y in left)]
+        picks.append(min(free, key=lots.index))
+        left.remove(picks[-1])
+    return picks
