@@ -1,11 +1,14 @@
 """Things that several tests hand in."""
 
 import itertools
+import math
 import unittest
 from collections import Counter
 from fractions import Fraction
 
 from pollproof.errors import NoWay, PollError
+from pollproof.pairs import Pairs
+from pollproof.seats import Seats
 
 
 class Other:
@@ -235,3 +238,35 @@ def picks_from(strengths, seats, lots):
         picks.append(min(free, key=lots.index))
         left.remove(picks[-1])
     return picks
+
+
+def votes_by(sheet, hands):
+    votes = [0] * (hands + 1)
+    for slip, number in sheet:
+        alone = [hand for hand in range(hands) if slip and slip[0] == 2 ** hand]
+        votes[alone[0] if alone else hands] += number
+    return votes
+
+
+def least_by(ballots, hurdle):
+    return max(1, math.ceil(Fraction(*hurdle) * ballots))
+
+
+def lists_by(votes, least, seats, lots, step):
+    """The outcome of lists, all marks at once: the greatest so many, of alike ones those ahead by lots."""
+    hands = len(votes) - 1
+    marks = [(-Fraction(votes[hand], 1 + step * had), lots.index(hand), hand)
+             for hand in range(hands) for had in range(seats) if votes[hand] >= least]
+    given = [hand for _, _, hand in sorted(marks)[:seats]]
+    return [given.count(hand) for hand in range(hands)]
+
+
+def outcome_by(way, sheet):
+    """The outcome of a sheet by a Seats, Pairs or Lists, reckoned without the program."""
+    if isinstance(way, Seats):
+        return seats_by(sheet, way.hands, way.seats, way.lots)
+    if isinstance(way, Pairs):
+        picks = picks_from(strengths_by(leads_by(sheet, way.hands)), way.seats, way.lots)
+        return [int(hand in picks) for hand in range(way.hands)]
+    least = least_by(sum(number for _, number in sheet), way.hurdle)
+    return lists_by(votes_by(sheet, way.hands), least, way.seats, way.lots, way.step)
