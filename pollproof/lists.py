@@ -10,7 +10,6 @@ from pollproof.wholes import divisor, is_whole, up
 MOST_STEP = 9
 
 
-# The hand that a slip is a vote for; None of an idle one.
 def vote_of(slip):
     if slip == ():
         return None

@@ -6,7 +6,6 @@ from pollproof.sheets import ballots_in, changed
 from pollproof.shifts import free_for, shift
 
 
-# All pairs of a hand with a seat and a hand without one.
 def pairs_by_seats(outcome):
     pairs = []
     for x, seats in enumerate(outcome):
@@ -40,7 +39,7 @@ class Margin:
             return True
         return self.sure_low(known) > unseen
 
-    # What `low` surely is at least, also where it is too hard to find.
+    # Where `low` is too hard to find, what the refusal bears is still sure.
     def sure_low(self, sheet):
         try:
             return self.least(sheet)[0]

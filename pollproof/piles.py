@@ -1,31 +1,31 @@
 """Piles: where the shares of ballots lie, what hands keep of them, and how they add up."""
 
 from pollproof.ballots import lies
-from pollproof.ratios import fraction, minus, parted, times, total, under
+from pollproof.ratios import fraction, minus, parted, times, under
 from pollproof.sets import all_of, holds, members, size, without
+from pollproof.wholes import divisor
 
 
 def begin(sheet, hands):
     return [((1, 1), [(0, 1) for hand in range(hands)]) for line in sheet]
 
 
-# What lies at each one of so many hands.
 def even_part(free, many):
-    # Most shares lie at one hand alone, and need no reckoning then.
-    if many == 1:
-        return free
-    return times(free, (1, many))
+    # A fraction in lowest terms has no more in common with its new bottom than with the number of hands, so that
+    # great parts of it need not be gone through.
+    common = divisor(free[0], many)
+    return (free[0] // common, free[1] * (many // common))
 
 
 def table_row(slip, free, kept, standing):
     row = list(kept)
-    where = lies(slip, standing)
-    if where == 0:
+    where = members(lies(slip, standing))
+    if where == []:
         row.append(free)
         return row
     row.append((0, 1))
-    part = even_part(free, size(where))
-    for hand in members(where):
+    part = even_part(free, len(where))
+    for hand in where:
         row[hand] = part
     return row
 
@@ -34,12 +34,24 @@ def table(sheet, state, standing):
     return [table_row(line[0], one[0], one[1], standing) for line, one in zip(sheet, state)]
 
 
-# Shares with alike bottoms are added up as whole numbers first, since fractions take long to add up.
+# A bottom that all the others divide, found from the greatest on, since most of the lesser ones divide that one.
+def common_bottom(bottoms):
+    common = 1
+    for bottom in sorted(bottoms, reverse=True):
+        if common % bottom != 0:
+            common = common * (bottom // divisor(common, bottom))
+    return common
+
+
+# Added up by way of one bottom for all: fractions that are added one by one take long where their parts are great.
 def weighed(sheet, shares):
     tops = {}
     for line, share in zip(sheet, shares):
-        tops[share[1]] = tops.get(share[1], 0) + line[1] * share[0]
-    return total([fraction(top, bottom) for bottom, top in tops.items()])
+        # Most shares are nought.
+        if share[0] != 0:
+            tops[share[1]] = tops.get(share[1], 0) + line[1] * share[0]
+    common = common_bottom(tops)
+    return fraction(sum([top * (common // bottom) for bottom, top in tops.items()]), common)
 
 
 def tallies(sheet, rows, hands):
@@ -53,7 +65,6 @@ def share_at(slip, free, standing, hand):
     return even_part(free, size(where))
 
 
-# Which part of the shares that lie at a hand it keeps when it gets its seat.
 def part_kept(tally, quota):
     if under((quota, 1), tally):
         return parted((quota, 1), tally)

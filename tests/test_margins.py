@@ -6,9 +6,9 @@ from pollproof.margins import Margin
 from pollproof.pairs import Pairs
 from pollproof.seats import Seats
 from pollproof.sheets import ballots_in, changed, number_of
-from pollproof.shifts import free_for, shift
+from pollproof.shifts import shift
 from pollproof.ways import Way
-from things import House, sheet_in, some_sheet
+from things import House, high_by, sheet_in, some_sheet
 
 SHEET = sheet_in("5 a>b, 4 b>a, 3 c")
 
@@ -20,27 +20,6 @@ def some_elections(many=80):
         make = Seats if turn % 2 else Pairs
         way = make(hands, dice.randint(1, hands - 1), dice.sample(range(hands), hands))
         yield way, some_sheet(dice, hands, dice.randint(1, 7), dice.choice([1, 3, 30, 1000]))
-
-
-def enough_by(margin, sheet, x, y):
-    """The halving for one pair, to its very end."""
-    slip = margin.slip_for(x, y)
-    lo, hi = 0, free_for(sheet, slip)
-    while hi - lo > 1:
-        middle = (lo + hi) // 2
-        if margin.way.outcome(changed(sheet, shift(sheet, x, y, slip, middle))) != margin.way.outcome(sheet):
-            hi = middle
-        else:
-            lo = middle
-    return hi
-
-
-def high_by(margin, sheet):
-    """The least of all pairs and the first pair that has it."""
-    outcome = margin.way.outcome(sheet)
-    pairs = [(x, y) for x in range(len(outcome)) for y in range(len(outcome)) if outcome[x] and not outcome[y]]
-    every = [(enough_by(margin, sheet, x, y), (x, y)) for x, y in pairs]
-    return min(every, key=lambda one: one[0])
 
 
 class Fixed(Margin):

@@ -9,6 +9,8 @@ from fractions import Fraction
 from pollproof.errors import NoWay, PollError
 from pollproof.pairs import Pairs
 from pollproof.seats import Seats
+from pollproof.sheets import changed
+from pollproof.shifts import free_for, shift
 
 
 class Other:
@@ -270,3 +272,41 @@ def outcome_by(way, sheet):
         return [int(hand in picks) for hand in range(way.hands)]
     least = least_by(sum(number for _, number in sheet), way.hurdle)
     return lists_by(votes_by(sheet, way.hands), least, way.seats, way.lots, way.step)
+
+
+def ballots_apart(one, other):
+    """How many ballots of the one sheet the other lacks."""
+    return sum((Counter(dict(one)) - Counter(dict(other))).values())
+
+
+def nearest_other(way, sheet, sheets, outcomes):
+    """The fewest changed ballots that make another outcome, sought through all sheets; None where there are none."""
+    own = outcome_by(way, sheet)
+    far = [ballots_apart(sheet, other) for other, outcome in zip(sheets, outcomes) if outcome != own]
+    return min(far) if far else None
+
+
+def together(one, other):
+    """One sheet of the ballots of two."""
+    return sorted((Counter(dict(one)) + Counter(dict(other))).items())
+
+
+def enough_by(margin, sheet, x, y):
+    """The halving for one pair, to its very end."""
+    slip = margin.slip_for(x, y)
+    lo, hi = 0, free_for(sheet, slip)
+    while hi - lo > 1:
+        middle = (lo + hi) // 2
+        if margin.way.outcome(changed(sheet, shift(sheet, x, y, slip, middle))) != margin.way.outcome(sheet):
+            hi = middle
+        else:
+            lo = middle
+    return hi
+
+
+def high_by(margin, sheet):
+    """The least of all pairs and the first pair that has it."""
+    outcome = margin.way.outcome(sheet)
+    pairs = [(x, y) for x in range(len(outcome)) for y in range(len(outcome)) if outcome[x] and not outcome[y]]
+    every = [(enough_by(margin, sheet, x, y), (x, y)) for x, y in pairs]
+    return min(every, key=lambda one: one[0])
