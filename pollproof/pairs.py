@@ -5,9 +5,8 @@ from pollproof.strong import cut_by, leads_of, overs, reached_from, strength, wa
 from pollproof.ways import Way
 
 
-def shown_from(leads, x):
-    reached = reached_from(leads, x)
-    others = [y for y in range(len(leads)) if y != x]
+def shown_from(reached, x):
+    others = [y for y in range(len(reached[0])) if y != x]
     return [(x, y, reached[0][y], way_by(reached, x, y), cut_by(reached, x, y)) for y in others]
 
 
@@ -43,9 +42,12 @@ class Pairs(Way):
         many = overs(sheet, self.hands)
         leads = leads_of(many)
         shown = []
+        strengths = []
         for x in range(self.hands):
-            shown.extend(shown_from(leads, x))
-        return (many, shown, self.picks_by(strength(leads)))
+            reached = reached_from(leads, x)
+            shown.extend(shown_from(reached, x))
+            strengths.append(reached[0])
+        return (many, shown, self.picks_by(strengths))
 
     def told_by(self, paper):
         return [1 if hand in paper[2] else 0 for hand in range(self.hands)]

@@ -9,8 +9,9 @@ def overs(sheet, hands):
         behind = all_of(hands)
         for tier in slip:
             behind = behind & ~tier
+            others = members(behind)
             for x in members(tier):
-                for y in members(behind):
+                for y in others:
                     many[x][y] = many[x][y] + number
     return many
 

@@ -173,7 +173,8 @@ class Need(House):
     def test_known_ones(self):
         way, turned = Seats(2, 1), Seats(2, 1, [1, 0])
         sums = [(6, 1), (3, 1), (0, 1)]
-        for deed, wanted, otherwise in [(("seat", 0), 0, 0), (("seat", 1), 2, 2), (("out", 0), 2, 2), (("out", 1), 2, 2)]:
+        for deed, wanted, otherwise in [(("seat", 0), 0, 0), (("seat", 1), 2, 2), (("out", 0), 2, 2),
+                                        (("out", 1), 2, 2)]:
             self.assertEqual(need(way, 9, sums, 3, deed), wanted)
             self.assertEqual(need(turned, 9, sums, 3, deed), otherwise)
         level = [(4, 1), (4, 1), (0, 1)]
@@ -265,14 +266,16 @@ class Search(House):
     def test_just_a_hundred(self):
         # The first sheet's search is done when a hundred cases have been opened, the others' by one more.
         self.assertEqual(SeatsMargin(Seats(6, 1)).least(sheet_in("21 a, 13 b>a, 11 c>a, 7 d>a, 14 e>b, 3 f>a"))[0], 8)
-        for hands, text in [(6, "11 a, 9 b>a, 2 c>a, 5 d>a, 6 e>a, 11 f>c"), (6, "7 a, 1 b>a, 3 c>a, 5 d>a, 4 e>a, 4 f>a"),
+        for hands, text in [(6, "11 a, 9 b>a, 2 c>a, 5 d>a, 6 e>a, 11 f>c"),
+                            (6, "7 a, 1 b>a, 3 c>a, 5 d>a, 4 e>a, 4 f>a"),
                             (7, "10 a, 11 b>a, 13 c>a, 3 d>a, 14 e>a, 7 f>a, 9 g>b")]:
             self.assertTrue(self.assert_searched(Seats(hands, 1), sheet_in(text)))
 
     def test_the_order_of_waiting_cases(self):
         # Of all these the end would be another one, were alike needs taken in another order.
         for hands, seats, low, text in [
-            (6, 1, 12, "30 a, 7 b>a, 1 c>a, 9 d>a, 10 e>a, 1 f>b"), (6, 1, 6, "16 a, 5 b>a, 8 c>a, 9 d>a, 2 e>c, 6 f>c"),
+            (6, 1, 12, "30 a, 7 b>a, 1 c>a, 9 d>a, 10 e>a, 1 f>b"),
+            (6, 1, 6, "16 a, 5 b>a, 8 c>a, 9 d>a, 2 e>c, 6 f>c"),
             (7, 2, 1, "7 a, 14 b>a, 6 c>a, 6 d>a, 7 e>c, 8 f>a, 7 g>b"),
             (7, 1, 2, "5 a, 5 b>a, 2 c>a, 10 d>a, 2 e>a, 6 f>a, 9 g>a"),
             (6, 3, 3, "10 a, 3 b>a, 9 c>a, 3 d>a, 4 e>c, 13 f>c"),
@@ -345,7 +348,8 @@ class BothSides(House):
                     self.assert_both_sides(way, sheet, sheets, outcomes)
 
     def test_not_possible(self):
-        for way, sheet in [(Seats(2, 2), [((1,), 3)]), (Seats(3, 6), [((1,), 3)]), (Seats(3, 1), []), (Seats(1, 1), [])]:
+        for way, sheet in [(Seats(2, 2), [((1,), 3)]), (Seats(3, 6), [((1,), 3)]), (Seats(3, 1), []),
+                           (Seats(1, 1), [])]:
             self.assertIsNone(SeatsMargin(way).told(sheet))
         for sheet in all_sheets(2, 3):
             self.assertEqual(Seats(2, 2).outcome(sheet), [1, 1])

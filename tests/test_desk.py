@@ -47,13 +47,16 @@ def lines_in(lines, names):
 
 class Polls(House):
     def test_names(self):
-        for row in ("poll a", "poll ann", "poll abcdefgh", "poll a b c d e f g h i j k l", "poll poll", "poll seats look",
+        for row in ("poll a", "poll ann", "poll abcdefgh", "poll a b c d e f g h i j k l", "poll poll",
+                    "poll seats look",
                     "poll z y x"):
             self.assertEqual(Desk().say(row), "ok")
 
     def test_wrong_names(self):
-        for row in ("poll", "poll ", "poll  ann", "poll ann ", "poll ann  bob", " poll ann", "poll abcdefghi", "poll Ann",
-                    "poll a1", "poll a-b", "poll ann ann", "poll ann bob ann", "poll a b c d e f g h i j k l m", "poll 5",
+        for row in ("poll", "poll ", "poll  ann", "poll ann ", "poll ann  bob", " poll ann", "poll abcdefghi",
+                    "poll Ann",
+                    "poll a1", "poll a-b", "poll ann ann", "poll ann bob ann", "poll a b c d e f g h i j k l m",
+                    "poll 5",
                     "poll ann:bob", "poll ann=bob", "poll a_b", "poll a.", "poll {", "poll `", "poll @", "poll ["):
             with self.subTest(row=row):
                 self.refuses(NoRow, Desk().say, row)
@@ -99,8 +102,10 @@ class Bundles(House):
     def test_lines_written_in_every_wrong_way(self):
         for line in ("", "5", ":", ":ann", "5ann", "5;ann", "05:ann", "00:ann", "-5:ann", "+5:ann", "5.0:ann", "x:ann",
                      "12345678901:ann", "00000000005:ann", "5:dan", "5:Ann", "5:ann>", "5:>ann", "5:ann>>bob", "5:=ann",
-                     "5:ann=", "5:ann==bob", "5:ann=ann", "5:ann>ann", "5:ann>bob=ann", "5:>", "5:=", "5::", "5:ann:bob",
-                     "5:ann,bob", "5:an", "5:annn", "5:ann<bob", "5:5", "5:ann>5", "ann:5", "1_0:ann", "0x5:ann", "0:dan",
+                     "5:ann=", "5:ann==bob", "5:ann=ann", "5:ann>ann", "5:ann>bob=ann", "5:>", "5:=", "5::",
+                     "5:ann:bob",
+                     "5:ann,bob", "5:an", "5:annn", "5:ann<bob", "5:5", "5:ann>5", "ann:5", "1_0:ann", "0x5:ann",
+                     "0:dan",
                      "2000000000:dan", "01:", "5:ann>bob>cy>ann"):
             desk = talk("poll ann bob cy", "bundle 3:ann", "bundle 2:bob", "look 0 lists 1 0/1 1")
             for row in ("bundle", "bundle 1:ann", "right 0", "right 1 2:ann", "found", "found 3:ann"):
@@ -120,7 +125,8 @@ class Bundles(House):
     def test_numbers_of_lines(self):
         desk = talk("poll ann bob", "bundle 3:ann", "bundle 2:bob", "look 0 lists 1 0/1 1")
         for number in ("0", "1000000001", "2000000000", "9999999999"):
-            for row in ("bundle {}:ann", "bundle 1:ann {}:bob", "bundle {}: 3:bob", "right 0 {}:ann", "right 0 3:ann {}:",
+            for row in ("bundle {}:ann", "bundle 1:ann {}:bob", "bundle {}: 3:bob", "right 0 {}:ann",
+                        "right 0 3:ann {}:",
                         "found {}:ann", "found 3:ann {}:ann"):
                 self.refuses(NoSheet, desk.say, row.format(number))
         self.assertEqual(answers(desk, ["lists 5 0/1 1", "bundle", "found 3:ann"]), ["ann:3 bob:2", "2", "sure"])
@@ -136,7 +142,8 @@ class Bundles(House):
 class Rights(House):
     def test_how_many_were_put_right(self):
         desk = talk("poll ann bob cy", "bundle 3:ann 2:bob", "bundle 1:cy")
-        for row, wanted in [("right 0 2:bob 3:ann", "0"), ("right 0 5:ann", "2"), ("right 0 5:cy", "5"), ("right 1 1:", "1"),
+        for row, wanted in [("right 0 2:bob 3:ann", "0"), ("right 0 5:ann", "2"), ("right 0 5:cy", "5"),
+                            ("right 1 1:", "1"),
                             ("right 1 1:", "0"), ("right 0 1:cy 4:cy", "0")]:
             self.assertEqual(desk.say(row), wanted)
         self.assertEqual(desk.say("lists 1 0/1 1"), "cy:1")
@@ -145,7 +152,8 @@ class Rights(House):
 
     def test_wrongly_written(self):
         desk = talk("poll ann bob", "bundle 3:ann")
-        for row in ("right", "right ", "right x 3:ann", "right 00 3:ann", "right 01 3:ann", "right -0 3:ann", "right +0 3:ann",
+        for row in ("right", "right ", "right x 3:ann", "right 00 3:ann", "right 01 3:ann", "right -0 3:ann",
+                    "right +0 3:ann",
                     "right 0: 3:ann", "right 3:ann", "right 12345678901 3:ann", "right 00000000000", "Right 0 3:ann",
                     "rights 0 3:ann", "right0 3:ann", "right 0.0 3:ann"):
             self.refuses(NoRow, desk.say, row)
@@ -170,7 +178,8 @@ class Ways(House):
         desk = talk("poll ann bob cy", "bundle 4:ann>bob 3:bob>ann", "bundle 2:cy>bob")
         for row, wanted in [("seats 1", "bob:1"), ("seats 2", "ann:1 bob:1"), ("seats 3", "ann:1 bob:1 cy:1"),
                             ("seats 6", "ann:1 bob:1 cy:1"), ("pairs 1", "bob:1"), ("pairs 2", "ann:1 bob:1"),
-                            ("pairs 60", "ann:1 bob:1 cy:1"), ("lists 1 0/1 1", "ann:1"), ("lists 9 0/1 1", "ann:4 bob:3 cy:2"),
+                            ("pairs 60", "ann:1 bob:1 cy:1"), ("lists 1 0/1 1", "ann:1"),
+                            ("lists 9 0/1 1", "ann:4 bob:3 cy:2"),
                             ("lists 7 1/3 1", "ann:4 bob:3"), ("lists 7 1/1 1", "nobody"), ("lists 7 4/9 1", "ann:7"),
                             ("lists 4 0/1 9", "ann:2 bob:1 cy:1"), ("lists 60 0/1 1", "ann:27 bob:20 cy:13")]:
             self.assertEqual(desk.say(row), wanted, row)
@@ -182,7 +191,8 @@ class Ways(House):
 
     def test_no_ballots(self):
         desk = talk("poll ann bob")
-        for row, wanted in [("seats 1", "ann:1"), ("pairs 1", "ann:1"), ("lists 1 0/1 1", "nobody"), ("margin seats 1", "none"),
+        for row, wanted in [("seats 1", "ann:1"), ("pairs 1", "ann:1"), ("lists 1 0/1 1", "nobody"),
+                            ("margin seats 1", "none"),
                             ("margin pairs 1", "none"), ("margin lists 1 0/1 1", "none"), ("look 0 seats 1", "sure"),
                             ("look 5 pairs 1", "sure"), ("look 5 lists 1 1/2 2", "sure")]:
             self.assertEqual(desk.say(row), wanted)
@@ -190,8 +200,10 @@ class Ways(House):
     def test_no_way(self):
         desk = talk("poll ann bob", "bundle 3:ann")
         for way in ("seats 0", "seats 7", "seats 60", "seats 9999999999", "pairs 0", "pairs 61", "pairs 9999999999",
-                    "lists 0 0/1 1", "lists 61 0/1 1", "lists 1 2/4 1", "lists 1 0/2 1", "lists 1 0/0 1", "lists 1 1/0 1",
-                    "lists 1 3/2 1", "lists 1 2/1 1", "lists 1 0/1 0", "lists 1 0/1 10", "lists 1 1/9999999998 9999999999"):
+                    "lists 0 0/1 1", "lists 61 0/1 1", "lists 1 2/4 1", "lists 1 0/2 1", "lists 1 0/0 1",
+                    "lists 1 1/0 1",
+                    "lists 1 3/2 1", "lists 1 2/1 1", "lists 1 0/1 0", "lists 1 0/1 10",
+                    "lists 1 1/9999999998 9999999999"):
             for row in (way, "margin " + way, "look 0 " + way):
                 with self.subTest(row=row):
                     self.refuses(NoWay, desk.say, row)
@@ -199,12 +211,16 @@ class Ways(House):
 
     def test_wrongly_written(self):
         desk = talk("poll ann bob", "bundle 3:ann")
-        ways = ("seats", "seats ", "seats x", "seats 01", "seats 1 ", "seats  1", "seats 1 1", "seats -1", "seats 12345678901",
+        ways = ("seats", "seats ", "seats x", "seats 01", "seats 1 ", "seats  1", "seats 1 1", "seats -1",
+                "seats 12345678901",
                 "Seats 1", "seat 1", "pairs", "pairs 1 2", "pairs 00", "pairs +1", "pairs 1.0", "lists", "lists 1",
-                "lists 1 0/1", "lists 1 0/1 1 1", "lists 1 01 1", "lists 1 0/01 1", "lists 1 00/1 1", "lists 1 /1 1", "lists 1 0/ 1",
+                "lists 1 0/1", "lists 1 0/1 1 1", "lists 1 01 1", "lists 1 0/01 1", "lists 1 00/1 1", "lists 1 /1 1",
+                "lists 1 0/ 1",
                 "lists 1 / 1", "lists 1 0/1/1 1", "lists 1 0//1 1", "lists 1 0 1", "lists 01 0/1 1", "lists 1 0/1 01",
-                "lists 1 0/1 x", "lists x 0/1 1", "lists 1 x/1 1", "lists 1 0/x 1", "lists 1 -1/2 1", "lists 1 0/12345678901 1",
-                "lists 1 0/1 1 ", "lists  1 0/1 1", "lists 1 0/1 ", "lists 1  1", "lists 1 0:1 1", "ann", "", "lists 1 0 / 1 1",
+                "lists 1 0/1 x", "lists x 0/1 1", "lists 1 x/1 1", "lists 1 0/x 1", "lists 1 -1/2 1",
+                "lists 1 0/12345678901 1",
+                "lists 1 0/1 1 ", "lists  1 0/1 1", "lists 1 0/1 ", "lists 1  1", "lists 1 0:1 1", "ann", "",
+                "lists 1 0 / 1 1",
                 "seats 1 0/1 1", "lists 0/1 1 1", "look 0 seats 1 0", "margin")
         for way in ways:
             for row in (way, "margin " + way, "look 0 " + way, "margin margin " + way):
@@ -324,11 +340,13 @@ class Signs(House):
                     self.refuses(NoWay, desk.say, "seats " + sign)
                 else:
                     for row in ("seats {}", "seats 1{}", "seats {}1", "pairs 1{}1", "lists 1 {}/1 1", "lists 1 0/{} 1",
-                                "lists {} 0/1 1", "lists 1 0/1 {}", "lists 1 0{}1 1", "look {} seats 1", "look 1{} seats 1"):
+                                "lists {} 0/1 1", "lists 1 0/1 {}", "lists 1 0{}1 1", "look {} seats 1",
+                                "look 1{} seats 1"):
                         if row.format(sign) != "lists 1 0/1 1":
                             self.refuses(NoRow, desk.say, row.format(sign))
                     for row in ("right {} 1:ann", "right 1{} 1:ann"):
-                        self.refuses(NoBallot if row.format(sign) == "right 1  1:ann" else NoRow, desk.say, row.format(sign))
+                        self.refuses(NoBallot if row.format(sign) == "right 1  1:ann" else NoRow, desk.say,
+                                     row.format(sign))
                     for row in ("bundle {}:ann", "bundle 1{}:ann", "bundle {}1:ann"):
                         self.refuses(NoBallot, desk.say, row.format(sign))
 
@@ -357,7 +375,8 @@ class Rows(House):
                     self.refuses(NoRow, desk.say, row)
 
     def test_ahead_of_the_first_poll(self):
-        for row in ("bundle", "bundle 3:ann", "right 0", "right 0 3:ann", "seats 1", "seats 0", "pairs 1", "lists 1 0/1 1",
+        for row in ("bundle", "bundle 3:ann", "right 0", "right 0 3:ann", "seats 1", "seats 0", "pairs 1",
+                    "lists 1 0/1 1",
                     "margin seats 1", "look 0 seats 1", "look 0 seats 9", "found", "found 3:ann", "bundle 0:", ""):
             desk = Desk()
             self.refuses(NoRow, desk.say, row)
@@ -365,19 +384,22 @@ class Rows(House):
 
     def test_no_such_rows(self):
         desk = talk("poll ann bob")
-        for row in ("hello", "Poll ann", "polls ann", "BUNDLE", "bundle:", "founds", "looks 0 seats 1", "margins seats 1", "ok",
+        for row in ("hello", "Poll ann", "polls ann", "BUNDLE", "bundle:", "founds", "looks 0 seats 1",
+                    "margins seats 1", "ok",
                     "poll\tann", "seats\t1", "1", "0", ":", "seats", "-"):
             self.refuses(NoRow, desk.say, row)
 
     def test_every_answer_is_a_text(self):
         desk = Desk()
-        for row in ["poll ann bob", "bundle 3:ann 2:bob", "right 0 3:ann 2:bob", "look 0 seats 1", "found 5:ann"] + ASKED:
+        for row in ["poll ann bob", "bundle 3:ann 2:bob", "right 0 3:ann 2:bob", "look 0 seats 1",
+                    "found 5:ann"] + ASKED:
             self.assertIs(type(desk.say(row)), str)
 
     def test_what_is_refused_changes_nothing(self):
         start = ["poll ann bob cy", "bundle 7:ann>bob 4:bob>ann", "bundle 3:cy", "look 1 lists 1 0/1 1"]
         wrong = ["poll", "poll ann ann", "bundle 3:dan", "bundle 0:ann", "bundle 3:ann 2000000000:ann", "right 5 3:ann",
-                 "right 1 4:cy", "right 1 3:dan", "right 1 0:cy", "right x", "seats 7", "margin lists 1 2/4 1", "look 0 seats 0",
+                 "right 1 4:cy", "right 1 3:dan", "right 1 0:cy", "right x", "seats 7", "margin lists 1 2/4 1",
+                 "look 0 seats 0",
                  "look x seats 1", "found 4:cy", "found 3:dan", "found 0:cy 3:cy", "hello", "bundle ", None]
         wanted = answers(talk(*start), ASKED + ["bundle", "found 3:ann", "right 1 3:ann"])
         for row in wrong:
@@ -393,7 +415,8 @@ class Rows(House):
         desk = talk("poll ann bob", "bundle 3:ann", "bundle 2:bob")
         for row, wanted in [
             ("look x seats 0", NoRow), ("lists 0 0/1 01", NoRow), ("right x 3:dan", NoRow), ("right 9 3:dan", NoBundle),
-            ("right 9 0:ann", NoBundle), ("right 9 9:ann", NoBundle), ("right 0 0:dan", NoBallot), ("right 0 9:dan", NoBallot),
+            ("right 9 0:ann", NoBundle), ("right 9 9:ann", NoBundle), ("right 0 0:dan", NoBallot),
+            ("right 0 9:dan", NoBallot),
             ("right 0 0:ann", NoSheet), ("right 0 9:ann 0:ann", NoSheet), ("right 0 9:ann", WrongNumber),
             ("bundle 0:dan", NoBallot), ("found 0:dan", Ended), ("found", Ended),
         ]:
@@ -427,7 +450,8 @@ class Rows(House):
                     self.assertEqual(desk.say("bundle" + lines_in(lines, NAMES)), str(len(bundles)))
                     bundles.append(lines)
                 sheet = sheet_of(list(itertools.chain(*bundles)))
-                for row, way in [("seats 2", Seats(3, 2)), ("pairs 1", Pairs(3, 1)), ("lists 5 1/9 2", Lists(3, 5, None, (1, 9), 2))]:
+                for row, way in [("seats 2", Seats(3, 2)), ("pairs 1", Pairs(3, 1)),
+                                 ("lists 5 1/9 2", Lists(3, 5, None, (1, 9), 2))]:
                     wanted = " ".join(f"{name}:{seats}" for name, seats in zip(NAMES, way.outcome(sheet)) if seats)
                     self.assertEqual(desk.say(row), wanted or "nobody")
 

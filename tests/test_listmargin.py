@@ -169,7 +169,8 @@ class Shows(House):
                 self.assertIs(margin.shows(sheet, more, cases), False)
 
     def test_each_single_thing_that_makes_a_paper_wrong(self):
-        for way, sheet in [(Lists(3, 4), sheet_in("6 a, 3 b, 2 ab, 1 c>a")), (Lists(2, 1, None, (1, 1)), sheet_in("4 a, 1 b")),
+        for way, sheet in [(Lists(3, 4), sheet_in("6 a, 3 b, 2 ab, 1 c>a")),
+                           (Lists(2, 1, None, (1, 1)), sheet_in("4 a, 1 b")),
                            (Lists(1, 1), sheet_in("3 a"))]:
             margin = ListsMargin(way)
             low, cases = margin.least(sheet)

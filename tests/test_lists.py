@@ -146,7 +146,8 @@ class Counting(House):
         self.assertEqual(way.outcome(sheet_in("5 a, 3 b, 2 c")), [3, 0, 0])
 
     def test_hands_without_votes_take_no_part(self):
-        self.assertEqual(Lists(2, 2).counted(sheet_in("1 a")), ([1, 0, 0], 1, [([(1, 1), None], 0), ([(1, 2), None], 0)]))
+        self.assertEqual(Lists(2, 2).counted(sheet_in("1 a")),
+                         ([1, 0, 0], 1, [([(1, 1), None], 0), ([(1, 2), None], 0)]))
 
     def test_idle_ballots_count_for_the_hurdle(self):
         way = Lists(2, 1, None, (1, 2))

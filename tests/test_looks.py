@@ -78,7 +78,8 @@ class Orders(House):
 
 class Making(House):
     def test_no_bundles(self):
-        for margin in (SeatsMargin(Seats(2, 1)), PairsMargin(Pairs(2, 1)), ListsMargin(Lists(2, 1)), Margin(Seats(2, 1))):
+        for margin in (SeatsMargin(Seats(2, 1)), PairsMargin(Pairs(2, 1)), ListsMargin(Lists(2, 1)),
+                       Margin(Seats(2, 1))):
             look = Look(margin, Box(2), 5)
             self.assertEqual((look.unlooked(), look.known(), look.word(), look.due()), (0, [], "sure", None))
             self.refuses(Ended, look.found, [])
@@ -104,7 +105,8 @@ class Making(House):
         box.put_right(0, [((2,), 3)])
         codes = [code_of(((2,), 9), 2)]
         box.take(codes, seal_of(codes))
-        self.assertEqual((look.unlooked(), look.known(), look.word(), look.due()), (5, [((1,), 3), ((2,), 2)], "open", 0))
+        self.assertEqual((look.unlooked(), look.known(), look.word(), look.due()),
+                         (5, [((1,), 3), ((2,), 2)], "open", 0))
         self.assertEqual(look.found([((1,), 3)]), "sure")
         self.assertEqual(look.known(), [((1,), 3), ((2,), 2)])
         self.assertEqual(box.lines_at(0), [((2,), 3)])

@@ -144,7 +144,8 @@ class PairsPapers(House):
         self.assertIs(checker.right(sheet, base), True)
         for place, (x, y, _, _, _) in enumerate(base[1]):
             z = 3 - x - y
-            for wrong in ([], [x], [y], [y, x], [x, z], [z, y], [z, x, y], [x, y, z], [x, x, y], [x, y, y], [x, y, x, y],
+            for wrong in ([], [x], [y], [y, x], [x, z], [z, y], [z, x, y], [x, y, z], [x, x, y], [x, y, y],
+                          [x, y, x, y],
                           [x, z, z, y], [x, z, x, y], [x, y, z, y], [x, 3, y], [x, -1, y], [x, 10 ** 40, y], [x - 3, y],
                           [x, y - 3], [z, z], [x, x]):
                 self.assert_wrong(self.with_row(place, {3: wrong}, base), sheet, checker)

@@ -70,7 +70,8 @@ class Low(House):
     def test_two_hands(self):
         for text, lots, wanted in [
             ("6 a, 3 b", [0, 1], 2), ("6 a, 3 b", [1, 0], 2), ("5 a, 3 b", [0, 1], 2), ("5 a, 3 b", [1, 0], 1),
-            ("3 a, 3 b", [0, 1], 1), ("3 a, 3 b", [1, 0], 1), ("7 a, 3 b", [0, 1], 3), ("7 a, 3 b", [1, 0], 2), ("4 ", [1, 0], 1),
+            ("3 a, 3 b", [0, 1], 1), ("3 a, 3 b", [1, 0], 1), ("7 a, 3 b", [0, 1], 3), ("7 a, 3 b", [1, 0], 2),
+            ("4 ", [1, 0], 1),
         ]:
             with self.subTest(text=text, lots=lots):
                 self.assertEqual(PairsMargin(Pairs(2, 1, lots)).least(sheet_in(text))[0], wanted)

@@ -197,7 +197,8 @@ class Promises(House):
     def test_orders_turned_round(self):
         for way, sheet in some_elections():
             other = turned_round(sheet, way.hands)
-            self.assertEqual(leads_by(other, way.hands), [[-lead for lead in row] for row in leads_by(sheet, way.hands)])
+            self.assertEqual(leads_by(other, way.hands),
+                             [[-lead for lead in row] for row in leads_by(sheet, way.hands)])
             for x, y in itertools.permutations(range(way.hands), 2):
                 self.assertEqual(way.beats(other, x, y), way.beats(sheet, y, x))
 

@@ -31,7 +31,8 @@ class SealOf(House):
             codes = [dice.randint(-10 ** 30, 10 ** 30) for _ in range(many)]
             kept = list(codes)
             told = seal_of(codes)
-            self.assertEqual(told, (many, *[sum(code * (k + 1) ** p for k, code in enumerate(codes)) for p in (0, 1, 2)]))
+            self.assertEqual(told, (many,
+                                    *[sum(code * (k + 1) ** p for k, code in enumerate(codes)) for p in (0, 1, 2)]))
             self.assertIs(type(told), tuple)
             self.assertEqual(codes, kept)
 

@@ -37,7 +37,8 @@ class SeatsPapers(House):
         self.assertIs(SeatsChecker(way).right([], []), False)
 
     def test_with_any_one_thing_altered_it_is_not(self):
-        for way, sheet in [(Seats(3, 1), DOCUMENT), (Seats(3, 2), [((3, 4), 8), ((4,), 2)]), (Seats(2, 2), [((1,), 1)])]:
+        for way, sheet in [(Seats(3, 1), DOCUMENT), (Seats(3, 2), [((3, 4), 8), ((4,), 2)]),
+                           (Seats(2, 2), [((1,), 1)])]:
             checker, paper = SeatsChecker(way), way.counted(sheet)
             many = 0
             for other in altered(paper):
@@ -77,7 +78,8 @@ class SeatsPapers(House):
     def test_passes_with_other_outcomes(self):
         for way, sheet in some_elections():
             paper, outcome = way.counted(sheet), way.outcome(sheet)
-            for other in ([], outcome[1:], outcome + [0], [1 - seat for seat in outcome], [seat + 1 for seat in outcome]):
+            for other in ([], outcome[1:], outcome + [0], [1 - seat for seat in outcome],
+                          [seat + 1 for seat in outcome]):
                 self.assertIs(SeatsChecker(way).passes(sheet, paper, other), other == outcome)
 
     def test_a_class_beneath_its_way(self):

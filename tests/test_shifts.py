@@ -77,7 +77,8 @@ class Shifts(House):
             sheet = some_sheet(dice, hands, 8, 4)
             kept = list(sheet)
             x, y = dice.sample(range(hands), 2)
-            slip = dice.choice([slip for slip in all_slips(hands) if slip and slip[0] >> y & 1 and not slip[0] >> x & 1])
+            lifting = [slip for slip in all_slips(hands) if slip and slip[0] >> y & 1 and not slip[0] >> x & 1]
+            slip = dice.choice(lifting)
             single = taken_by(sheet, x, y, slip)
             self.assertEqual(free_for(sheet, slip), len(single))
             for many in range(len(single) + 1):

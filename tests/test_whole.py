@@ -121,7 +121,8 @@ class Margins(House):
             for row in ("seats 1", "pairs 1", "lists 2 1/3 1", "seats 2", "pairs 3"):
                 ends = [desk_with(hands, sheet).say(row) for sheet in sheets]
                 for place in dice.sample(range(len(sheets)), 20):
-                    others = [ballots_apart(sheets[place], other) for other, end in zip(sheets, ends) if end != ends[place]]
+                    others = [ballots_apart(sheets[place], other)
+                              for other, end in zip(sheets, ends) if end != ends[place]]
                     told = desk_with(hands, sheets[place]).say("margin " + row)
                     if others == []:
                         self.assertEqual(told, "none")
